@@ -1,0 +1,1 @@
+"""Keywaits: key maps with waits."""
