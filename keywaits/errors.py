@@ -34,7 +34,8 @@ class UnknownBinding(MapError):
     """A key map does not have a binding with an index."""
 
     def __init__(self, index):
-        super().__init__(f"there is no binding {index}")
+        # The index may be anything, even what has no text, such as a number of too many digits.
+        super().__init__("there is no such binding")
         self.index = index
 
 

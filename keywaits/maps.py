@@ -1,6 +1,6 @@
 """Key maps: modes, a wait and bindings."""
 
-from keywaits.errors import InvalidMap
+from keywaits.errors import InvalidMap, UnknownBinding
 from keywaits.kinds import is_number, is_word
 
 MOST_MODES = 4
@@ -85,6 +85,12 @@ class KeyMap:
     def with_wait(self, wait):
         """Return the same key map with another wait."""
         return KeyMap(self._modes, wait, self._bindings)
+
+
+def check_index(keymap, index):
+    """Raise UnknownBinding unless a key map has a binding with this number."""
+    if not is_number(index, 0, len(keymap.bindings) - 1):
+        raise UnknownBinding(index)
 
 
 def reachable_modes(keymap):

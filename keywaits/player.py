@@ -110,9 +110,8 @@ def _is_stroke(value, least):
     return is_number(value[0], least, LAST_TICK) and is_word(value[1], 1)
 
 
-def _happened(keymap, strokes):
-    """Check strokes and play them; return all that happens, as a Player lists it."""
-    check_strokes(strokes)
+def play_all(keymap, strokes):
+    """Play strokes, of any number; return all that happens, as a Player lists it."""
     player = Player(keymap)
     for tick, key in strokes:
         player.press(tick, key)
@@ -122,7 +121,8 @@ def _happened(keymap, strokes):
 
 def play(keymap, strokes):
     """Return the list of all events (what, tick, name) of strokes, in order."""
-    return [(what, tick, name) for what, tick, name, size in _happened(keymap, strokes)]
+    check_strokes(strokes)
+    return [(what, tick, name) for what, tick, name, size in play_all(keymap, strokes)]
 
 
 def commands_of(keymap, strokes):
@@ -147,10 +147,11 @@ def state_at(keymap, strokes, tick):
 
 def find_delays(keymap, strokes):
     """Return the list of (command, delay) for all commands that fire, in order."""
+    check_strokes(strokes)
     delays = []
     # Keys fire or are lost in the order of the strokes, so counting them finds the last key of a command.
     done = 0
-    for what, tick, name, size in _happened(keymap, strokes):
+    for what, tick, name, size in play_all(keymap, strokes):
         done += size
         if what == "command":
             delays.append((name, tick - strokes[done - 1][0]))

@@ -1,5 +1,6 @@
 """What several tests share: a check of exceptions, and a player that follows the document word by word."""
 
+import itertools
 import random
 import unittest
 
@@ -87,6 +88,17 @@ def changed_map(dice, keymap):
     else:
         dice.shuffle(bindings)
     return KeyMap(keymap.modes, keymap.wait, tuple(bindings))
+
+
+def all_strokes(keys, number, longest_pause):
+    """Yield all strokes with a number of keys and no longer pauses, in list order."""
+    choices = [(pause, key) for pause in range(longest_pause + 1) for key in keys]
+    for row in itertools.product(choices, repeat=number):
+        tick, strokes = 0, []
+        for pause, key in row:
+            tick += pause
+            strokes.append((tick, key))
+        yield strokes
 
 
 def new_dice(seed):

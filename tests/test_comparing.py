@@ -1,8 +1,7 @@
-import itertools
 import unittest
 from unittest import mock
 
-from helper import Checks, changed_map, chance_map, new_dice
+from helper import Checks, all_strokes, changed_map, chance_map, new_dice
 from keywaits.comparing import are_alike, first_parting
 from keywaits.errors import TooManyKeys
 from keywaits.maps import KeyMap
@@ -15,17 +14,6 @@ def do_part(one, other, strokes, is_timed):
     if is_timed:
         return play(one, strokes) != play(other, strokes)
     return list(commands_of(one, strokes)) != list(commands_of(other, strokes))
-
-
-def all_strokes(keys, number, longest_pause):
-    """Yield all strokes with a number of keys and no longer pauses, in list order."""
-    choices = [(pause, key) for pause in range(longest_pause + 1) for key in keys]
-    for row in itertools.product(choices, repeat=number):
-        tick, strokes = 0, []
-        for pause, key in row:
-            tick += pause
-            strokes.append((tick, key))
-        yield strokes
 
 
 def plain_parting(one, other, is_timed, keys, most, longest_pause):

@@ -21,6 +21,34 @@ INTERFACE = {
         "first_parting": "(one, other, *, is_timed=True)",
         "are_alike": "(one, other, *, is_timed=True)",
     },
+    "delays": {"greatest_delay": "(keymap)"},
+    "thinning": {
+        "late_pairs": "(keymap)",
+        "fewest_to_drop": "(keymap)",
+        "find_chains": "(keymap)",
+        "judge_chains": "(keymap, chains)",
+        "without_bindings": "(keymap, *indexes)",
+    },
+    "repeating": {
+        "count_repeated": "(keymap, strokes, length, times)",
+        "repeated_event": "(keymap, strokes, length, number)",
+    },
+    "waits": {"good_waits": "(keymap, wanted, inner, outer)", "HiddenWait": "(keymap)"},
+}
+# Of each class: its properties, its class methods and its other methods.
+CLASSES = {
+    ("maps", "KeyMap"): (
+        ("modes", "wait", "bindings"), {"simple": "(wait, **commands)"}, {"with_wait": "(self, wait)"},
+    ),
+    ("waits", "HiddenWait"): (
+        ("candidates", "history"),
+        {"from_log": "(keymap, *observations)"},
+        {
+            "see": "(self, strokes, events)",
+            "see_commands": "(self, strokes, *commands)",
+            "telling_strokes": "(self)",
+        },
+    ),
 }
 BARRED_WORDS = re.compile(
     r"\b(type|typing|typing_extensions|enum|Enum|IntEnum|StrEnum|Flag|IntFlag|Generic|Protocol|ABC|ABCMeta|namedtuple"
@@ -52,13 +80,18 @@ class InterfaceTest(unittest.TestCase):
                     self.assertEqual(module.__name__, found.__module__)
                     self.assertEqual(arguments, str(inspect.signature(found)))
 
-    def test_parts_of_the_key_map(self):
-        parts = vars(importlib.import_module("keywaits.maps").KeyMap)
-        for name in ("modes", "wait", "bindings"):
-            self.assertIsInstance(parts[name], property)
-        self.assertIsInstance(parts["simple"], classmethod)
-        self.assertEqual("(wait, **commands)", str(inspect.signature(parts["simple"].__get__(None, object))))
-        self.assertEqual("(self, wait)", str(inspect.signature(parts["with_wait"])))
+    def test_parts_of_classes(self):
+        for (file_name, class_name), (properties, class_methods, methods) in CLASSES.items():
+            with self.subTest(class_name):
+                # What stands in the class itself, not in a base class.
+                parts = vars(getattr(importlib.import_module("keywaits." + file_name), class_name))
+                for name in properties:
+                    self.assertIsInstance(parts[name], property)
+                for name, arguments in class_methods.items():
+                    self.assertIsInstance(parts[name], classmethod)
+                    self.assertEqual(arguments, str(inspect.signature(parts[name].__get__(None, object))))
+                for name, arguments in methods.items():
+                    self.assertEqual(arguments, str(inspect.signature(parts[name])))
 
     def test_generators(self):
         player = importlib.import_module("keywaits.player")
