@@ -54,7 +54,7 @@ class Rules:
 
 
 class Player:
-    """A key map that plays keys: its state (see Rules), and all that has happened so far.
+    """A key map that plays keys: its state (see Rules), its fed tick, and all that has happened so far.
 
     `happened` lists tuples of what happened ("command" or "lost"), the tick, the name and the number of keys.
     """
@@ -62,7 +62,7 @@ class Player:
     def __init__(self, keymap):
         self._rules = Rules(keymap)
         self._pause = keymap.wait
-        self._fed_tick = 0
+        self.fed_tick = 0
         self.state = (keymap.modes[0], "")
         self.happened = []
 
@@ -74,7 +74,7 @@ class Player:
 
     def let_pass(self, tick):
         """Let all waits pass that pass up to and including a tick."""
-        while self.state[1] and self._fed_tick + self._pause <= tick:
+        while self.state[1] and self.fed_tick + self._pause <= tick:
             self._pass_wait()
 
     def let_all_pass(self):
@@ -82,13 +82,17 @@ class Player:
         while self.state[1]:
             self._pass_wait()
 
+    def list_events(self):
+        """Return the list of all events (what, tick, name) so far, in order."""
+        return [(what, tick, name) for what, tick, name, size in self.happened]
+
     def _pass_wait(self):
         steps, self.state = self._rules.break_up(self.state)
-        self._note(self._fed_tick + self._pause, steps)
+        self._note(self.fed_tick + self._pause, steps)
 
     def _note(self, tick, steps):
         # Keys that still wait now were fed, or fed again, at this tick.
-        self._fed_tick = tick
+        self.fed_tick = tick
         for what, name, size in steps:
             self.happened.append((what, tick, name, size))
 
@@ -110,19 +114,24 @@ def _is_stroke(value, least):
     return is_number(value[0], least, LAST_TICK) and is_word(value[1], 1)
 
 
-def play_all(keymap, strokes):
-    """Play strokes, of any number; return all that happens, as a Player lists it."""
+def _played(keymap, strokes):
+    """Return a player that has played strokes to their end."""
     player = Player(keymap)
     for tick, key in strokes:
         player.press(tick, key)
     player.let_all_pass()
-    return player.happened
+    return player
+
+
+def play_all(keymap, strokes):
+    """Play strokes, of any number; return all that happens, as a Player lists it."""
+    return _played(keymap, strokes).happened
 
 
 def play(keymap, strokes):
     """Return the list of all events (what, tick, name) of strokes, in order."""
     check_strokes(strokes)
-    return [(what, tick, name) for what, tick, name, size in play_all(keymap, strokes)]
+    return _played(keymap, strokes).list_events()
 
 
 def commands_of(keymap, strokes):
